@@ -1,0 +1,1 @@
+"""Slanttables: tables alike along slants."""
