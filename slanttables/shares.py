@@ -6,6 +6,7 @@ functions that are asked from outside do, with is_share and is_row.
 """
 
 NOUGHT = (0, 1)
+ONE = (1, 1)
 
 
 def is_whole(thing):
@@ -16,6 +17,11 @@ def is_whole(thing):
 def is_within(thing, least, most):
     """Tell whether a thing is a whole number from least to most."""
     return is_whole(thing) and least <= thing <= most
+
+
+def are_within(thing, least, most):
+    """Tell whether a thing is a tuple of whole numbers from least to most, perhaps of none."""
+    return isinstance(thing, tuple) and all([is_within(number, least, most) for number in thing])
 
 
 def common_divisor(one, other):
@@ -74,6 +80,21 @@ def by(one, other):
 def row_of(numbers):
     """Tell whole numbers as a row of shares."""
     return tuple([(number, 1) for number in numbers])
+
+
+def one_at(place, many):
+    """Tell the row of this many shares that is 1 at this place and 0 else."""
+    return row_of([int(at == place) for at in range(many)])
+
+
+def row_by(row, share):
+    """Tell a row with each share divided by this one, which is not 0."""
+    return tuple([by(part, share) for part in row])
+
+
+def row_less(one, share, other):
+    """Tell the first row less the other one, this taken share times."""
+    return tuple([minus(left, times(share, right)) for left, right in zip(one, other)])
 
 
 def sum_of_products(one, other):

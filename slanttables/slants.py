@@ -1,11 +1,13 @@
 """Slants, the tables that they tell, and rows that the tables are times."""
 
 from slanttables.errors import NoNumber, NoRow, NoSlants
-from slanttables.shares import is_row, is_whole, is_within, row_of, sum_of_products
+from slanttables.shares import are_within, is_row, is_whole, is_within, one_at, row_of, sum_of_products
 
 LEAST = -50
 MOST = 50
 GREATEST_SIZE = 5
+LEAST_IN_ROW = -1000
+MOST_IN_ROW = 1000
 
 
 def size_of(slants):
@@ -15,11 +17,9 @@ def size_of(slants):
 
 def slants_good(thing):
     """Tell whether a thing is slants of some size."""
-    if not isinstance(thing, tuple) or len(thing) % 2 == 0:
+    if not are_within(thing, LEAST, MOST) or len(thing) % 2 == 0:
         return False
-    if size_of(thing) > GREATEST_SIZE:
-        return False
-    return all([is_within(number, LEAST, MOST) for number in thing])
+    return size_of(thing) <= GREATEST_SIZE
 
 
 def need_slants(thing):
@@ -93,8 +93,32 @@ def row_good(slants, thing):
     return is_row(thing, size_of(slants))
 
 
+def share_rows(slants):
+    """Tell the list of the rows of the table, each as a row of shares."""
+    return [row_of(numbers) for numbers in table_of(slants)]
+
+
 def times_row(slants, row):
     """Tell the row of shares that the table of slants, times a row, comes to."""
     if not row_good(slants, row):
         raise NoRow()
-    return tuple([sum_of_products(row_of(numbers), row) for numbers in table_of(slants)])
+    return tuple([sum_of_products(line, row) for line in share_rows(slants)])
+
+
+def makes(slants, thing, row):
+    """Tell whether a thing is a row of shares by which times_row is this row of shares."""
+    return row_good(slants, thing) and times_row(slants, thing) == row
+
+
+def ends_good(slants, thing):
+    """Tell whether a thing is a tuple of two rows by which times_row is 1 at the first place alone, and at the last."""
+    if not isinstance(thing, tuple) or len(thing) != 2:
+        return False
+    size = size_of(slants)
+    return makes(slants, thing[0], one_at(0, size)) and makes(slants, thing[1], one_at(size - 1, size))
+
+
+def need_whole_row(slants, thing):
+    """Refuse with NoRow what is no row of as many whole numbers as the size, none too small or too great."""
+    if not are_within(thing, LEAST_IN_ROW, MOST_IN_ROW) or len(thing) != size_of(slants):
+        raise NoRow()

@@ -71,6 +71,19 @@ def module_names(tree):
     return names
 
 
+def imported_files(path):
+    """Tell the files that a file imports from, itself not followed further."""
+    tree = ast.parse(path.read_text("utf-8"))
+    return {node.module.split(".")[1] for node in tree.body if isinstance(node, ast.ImportFrom)}
+
+
+def local_names(function):
+    """Tell the names that a function binds within itself."""
+    names = {node.arg for node in ast.walk(function) if isinstance(node, ast.arg)}
+    return names | {node.id for node in ast.walk(function)
+                    if isinstance(node, ast.Name) and not isinstance(node.ctx, ast.Load)}
+
+
 class Language(unittest.TestCase):
     def each_node(self):
         for path in FILES:
@@ -145,6 +158,36 @@ class Language(unittest.TestCase):
             self.assertEqual(set(names) & outside, set(), path.name)
             at_module_level = module_names(tree)
             self.assertEqual(len(at_module_level), len(set(at_module_level)), path.name)
+
+    def test_l15_no_local_name_is_that_of_an_import_a_class_or_a_function(self):
+        for path in FILES:
+            tree = ast.parse(path.read_text("utf-8"))
+            for node in ast.walk(tree):
+                if isinstance(node, ast.FunctionDef):
+                    self.assertEqual(local_names(node) & set(module_names(tree)), set(), self.where(path, node))
+
+    def test_l16_no_two_files_import_from_each_other(self):
+        waiting = {path.stem: imported_files(path) for path in FILES}
+        while waiting:
+            ready = [name for name, others in waiting.items() if not others & set(waiting)]
+            self.assertNotEqual(ready, [], sorted(waiting))
+            for name in ready:
+                del waiting[name]
+
+    def test_l23_what_is_iterated_at_once_is_not_stored(self):
+        for path, node in self.each_node():
+            if isinstance(node, (ast.Assign, ast.Return)) and isinstance(node.value, ast.Call):
+                name = getattr(node.value.func, "id", getattr(node.value.func, "attr", None))
+                self.assertNotIn(name, ("zip", "enumerate", "reversed", "range", "items", "keys", "values"),
+                                 self.where(path, node))
+
+    def test_every_import_is_used(self):
+        for path in FILES:
+            tree = ast.parse(path.read_text("utf-8"))
+            used = {node.id for node in ast.walk(tree) if isinstance(node, ast.Name)}
+            for node in tree.body:
+                if isinstance(node, ast.ImportFrom):
+                    self.assertEqual({alias.name for alias in node.names} - used, set(), path.name)
 
     def test_l10_l14_sizes_and_signs(self):
         for path in FILES:

@@ -5,23 +5,8 @@ import unittest
 
 from slanttables.errors import NoRow, NoSlants
 from slanttables.slants import row_good, table_of, times_row, turned_slants
-from tests.things import (
-    NO_SHARES, OTHER_THINGS, SOME_SHARES, SOME_SLANTS, fractions_of, row_of_fractions, rows_for, size_by_length,
-)
-
-NO_SLANTS = [None, True, (True,), (51,), (-51, 0, 0), (1, 2), [1, 2, 3], [[1]], "1", {}, (), (0,) * 11, ((1, 1),)]
-
-
-def no_rows(size):
-    """Tell things that are no row of this many shares."""
-    row = tuple(SOME_SHARES[:size])
-    things = OTHER_THINGS + NO_SHARES + [
-        row[:-1], row + ((1, 1),), list(row), [list(share) for share in row], tuple(list(share) for share in row),
-        {at: share for at, share in enumerate(row)}, (row,), str(row), (1,) * size, (0,) * size, (True,) * size,
-    ]
-    for place in range(size):
-        things += [row[:place] + (thing,) + row[place + 1:] for thing in NO_SHARES]
-    return things
+from tests.reference import fractions_of, row_of_fractions, size_by_length
+from tests.things import NO_SLANTS, SOME_SLANTS, no_rows, rows_for
 
 
 class RowGood(unittest.TestCase):

@@ -4,7 +4,8 @@ import unittest
 from fractions import Fraction
 
 from slanttables import shares
-from tests.things import NO_SHARES, OTHER_THINGS, SOME_SHARES, fractions_of, row_of_fractions, rows_for
+from tests.reference import fractions_of, row_of_fractions
+from tests.things import NO_SHARES, OTHER_THINGS, SOME_SHARES, rows_for
 
 
 def fraction(share):
@@ -26,6 +27,12 @@ class Kinds(unittest.TestCase):
                          [False, False, True, True, True, True, True, True, False, False])
         for thing in (True, False, None, "1", [1], (1,), {}):
             self.assertIs(shares.is_within(thing, -2, 3), False)
+
+    def test_tuples_within(self):
+        for thing in ((), (3,), (-2, 3, 0)):
+            self.assertIs(shares.are_within(thing, -2, 3), True)
+        for thing in ((4,), (-3,), (0, 4), (4, 0), [0], [], 0, "", {}, None, (True,), (0, False), ("0",), ((0,),)):
+            self.assertIs(shares.are_within(thing, -2, 3), False)
 
     def test_shares(self):
         for share in SOME_SHARES:
@@ -83,6 +90,24 @@ class Reckoning(unittest.TestCase):
     def test_whole_numbers_as_a_row(self):
         self.assertEqual(shares.row_of([3, 0, -4]), ((3, 1), (0, 1), (-4, 1)))
         self.assertEqual(shares.row_of([]), ())
+
+    def test_one_at_a_place(self):
+        self.assertEqual(shares.one_at(0, 1), ((1, 1),))
+        self.assertEqual(shares.one_at(1, 3), ((0, 1), (1, 1), (0, 1)))
+
+    def test_row_by_a_share(self):
+        for row in rows_for(3):
+            for share in SOME_SHARES:
+                if share != (0, 1):
+                    expected = row_of_fractions([part / fraction(share) for part in fractions_of(row)])
+                    self.assertEqual(shares.row_by(row, share), expected)
+
+    def test_row_less_a_share_of_another(self):
+        for one, other in zip(rows_for(3), rows_for(3)[5:]):
+            for share in SOME_SHARES:
+                parts = zip(fractions_of(one), fractions_of(other))
+                expected = row_of_fractions([mine - fraction(share) * yours for mine, yours in parts])
+                self.assertEqual(shares.row_less(one, share, other), expected)
 
     def test_sum_of_products(self):
         self.assertEqual(shares.sum_of_products((), ()), (0, 1))

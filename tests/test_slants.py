@@ -5,18 +5,8 @@ import unittest
 
 from slanttables.errors import NoNumber, NoSlants, SlantError
 from slanttables.slants import corner, mirrored_slants, slants_good, slants_of, table_of, turned_slants
-from tests.things import NO_SHARES, OTHER_THINGS, SOME_SLANTS, size_by_length
-
-# Some things that are no shares are slants; as True is equal to 1, they are told by how they are written.
-SLANTS_AMONG_NO_SHARES = ["(1,)", "(1, 2, 3)", "(1, 1, 1)"]
-
-NO_SLANTS = [thing for thing in OTHER_THINGS + NO_SHARES if repr(thing) not in SLANTS_AMONG_NO_SHARES] + [
-    (51,), (-51,), (50, 51, 50), (-51, 0, 0), (0, 0, -51), (0, 0, 0, 0, 51), (10 ** 39,),
-    (1, 2), (1, 2, 3, 4), (1,) * 6, (1,) * 8, (1,) * 10, (1,) * 11, (1,) * 13, (0,) * 999,
-    [1], [1, 2, 3], [0] * 9, (1, 2, True), (False, 0, 0), (1, True, 1), (1, None, 2), (1, "2", 3), "1", "123",
-    (1, [2], 3), (1, (2,), 3), (1, {}, 3), {0: 1}, {1: 1, 2: 2, 3: 3}, ((1, 2, 3),), ((1, 2, 3), (1, 2, 3), (1, 2, 3)),
-    [[1]], [[1, 2], [3, 1]],
-]
+from tests.reference import size_by_length
+from tests.things import NO_SLANTS, OTHER_THINGS, SOME_SLANTS
 
 NO_TABLES = OTHER_THINGS + SOME_SLANTS + [
     [[51]], [[-51]], [[10 ** 39]], [[1, 2]], [[1], [1]], [[1], [2]], [1], [1, 2], [[]], [[], []],

@@ -1,6 +1,8 @@
 """Inputs that several tests share."""
 
-from fractions import Fraction
+import itertools
+
+from tests.reference import kind_by_orders
 
 # One of each kind that may be handed in, none of them slants, a table, a row of shares or a size.
 OTHER_THINGS = [
@@ -30,6 +32,49 @@ NO_SHARES = [
     (6 * 10 ** 28, 4 * 10 ** 28),
 ]
 
+# Some things that are no shares are slants; as True is equal to 1, they are told by how they are written.
+SLANTS_AMONG_NO_SHARES = ["(1,)", "(1, 2, 3)", "(1, 1, 1)"]
+
+NO_SLANTS = [thing for thing in OTHER_THINGS + NO_SHARES if repr(thing) not in SLANTS_AMONG_NO_SHARES] + [
+    (51,), (-51,), (50, 51, 50), (-51, 0, 0), (0, 0, -51), (0, 0, 0, 0, 51), (10 ** 39,),
+    (1, 2), (1, 2, 3, 4), (1,) * 6, (1,) * 8, (1,) * 10, (1,) * 11, (1,) * 13, (0,) * 999,
+    [1], [1, 2, 3], [0] * 9, (1, 2, True), (False, 0, 0), (1, True, 1), (1, None, 2), (1, "2", 3), "1", "123",
+    (1, [2], 3), (1, (2,), 3), (1, {}, 3), {0: 1}, {1: 1, 2: 2, 3: 3}, ((1, 2, 3),), ((1, 2, 3), (1, 2, 3), (1, 2, 3)),
+    [[1]], [[1, 2], [3, 1]], ((1, 1),),
+]
+
+
+def no_rows(size):
+    """Tell things that are no row of this many shares."""
+    row = tuple(SOME_SHARES[:size])
+    things = OTHER_THINGS + NO_SHARES + [
+        row[:-1], row + ((1, 1),), list(row), [list(share) for share in row], tuple(list(share) for share in row),
+        {at: share for at, share in enumerate(row)}, (row,), str(row), (1,) * size, (0,) * size, (True,) * size,
+    ]
+    for place in range(size):
+        things += [row[:place] + (thing,) + row[place + 1:] for thing in NO_SHARES]
+    return things
+
+
+def no_whole_rows(size):
+    """Tell things that are no row of this many whole numbers, each from -1000 to 1000."""
+    row = (1000, -1000, 0, 7, -3)[:size]
+    things = OTHER_THINGS + [
+        row[:-1], row + (0,), list(row), (row,), [row], str(row), {at: 0 for at in range(size)},
+        tuple((number, 1) for number in row), tuple(str(number) for number in row), ((1, 1),) * size,
+    ]
+    for place in range(size):
+        things += [row[:place] + (thing,) + row[place + 1:] for thing in (
+            1001, -1001, 10 ** 39, -(10 ** 39), True, False, None, "0", "", [0], (0,), (0, 1), {}, [], ())]
+    return things
+
+
+def whole_rows_for(size):
+    """Tell several rows of this many whole numbers, each from -1000 to 1000."""
+    numbers = (1000, -1000, 0, 1, -1, 37, -250, 999, 6)
+    rows = [tuple(numbers[(start + 2 * i) % 9] for i in range(size)) for start in range(9)]
+    return rows + [(0,) * size, (1000,) * size, (-1000,) * size]
+
 
 def rows_for(size):
     """Tell several rows of this many shares."""
@@ -37,13 +82,35 @@ def rows_for(size):
     return [tuple(SOME_SHARES[(start + step * i) % many] for i in range(size)) for start in range(many) for step in (1, 2)]
 
 
-def fractions_of(row):
-    return [Fraction(top, bottom) for top, bottom in row]
+def ones_and_noughts(size, each):
+    """Tell slants of this size out of -1, 0 and 1: each so-manieth of all of them."""
+    return list(itertools.islice(itertools.product((-1, 0, 1), repeat=2 * size - 1), 0, None, each))
 
 
-def row_of_fractions(fractions):
-    return tuple((number.numerator, number.denominator) for number in fractions)
+def spread_slants(size, many):
+    """Tell so many slants of this size with numbers all over the place."""
+    return [tuple((37 * seed * seed + 53 * k * k * k + 29 * seed * k + 11 * k) % 101 - 50 for k in range(2 * size - 1))
+            for seed in range(1, many + 1)]
 
 
-def size_by_length(slants):
-    return {1: 1, 3: 2, 5: 3, 7: 4, 9: 5}[len(slants)]
+MANY_SLANTS = SOME_SLANTS + [
+    (0, 0, 0, 0, 0), (1, 1, 1, 1, 1), (0, 0, 0, 1, 2), (2, 1, 0, 0, 0), (50, 50, -50, 50, 50), (0, 1, 0, 0, 0),
+    (0,) * 7, (3,) * 7, (0, 0, 0, 0, 1, 2, 3), (3, 2, 1, 0, 0, 0, 0), (0, 0, 0, 0, 0, 5, 0), (1, 0, 0, 0, 0, 0, 1),
+    (0,) * 9, (-50,) * 9, (50,) * 9, (0, 0, 0, 0, 0, 1, 2, 3, 4), (4, 3, 2, 1, 0, 0, 0, 0, 0), (1, -1) * 4 + (1,),
+    (0, 0, 0, 0, 0, 0, 2, 0, 0), (0, 0, 0, 0, 0, 0, 0, 0, 1), (1, 0, 0, 0, 0, 0, 0, 0, 0), (50, 0, 0, 0, 0, 50, 0, 0, 0),
+] + [slants for size, each in ((1, 1), (2, 1), (3, 2), (4, 19), (5, 151)) for slants in ones_and_noughts(size, each)] + [
+    slants for size in range(1, 6) for slants in spread_slants(size, 9)]
+
+
+def sorted_out(all_slants):
+    """Tell slants by their kind: strong, full but not strong, not full."""
+    kinds = {"strong": [], "full": [], "not full": []}
+    for slants in dict.fromkeys(all_slants):
+        kinds[kind_by_orders(slants)].append(slants)
+    return kinds
+
+
+SLANTS_BY_KIND = sorted_out(MANY_SLANTS)
+STRONG = SLANTS_BY_KIND["strong"]
+FULL_NOT_STRONG = SLANTS_BY_KIND["full"]
+NOT_FULL = SLANTS_BY_KIND["not full"]
