@@ -34,3 +34,8 @@ def cleared(rows, many):
             rest = without_place(rest[:at] + rest[at + 1:], lead, place)
             places.append(place)
     return (leading, places)
+
+
+def are_independent(rows, many):
+    """Tell whether, of these rows of this many shares, none is a sum of shares of the others, or of none of them."""
+    return len(cleared(rows, many)[0]) == len(rows)

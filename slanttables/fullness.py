@@ -1,6 +1,7 @@
 """Papers that slants are full, or not, and the rows of which they make noughts."""
 
 from slanttables.clearing import cleared
+from slanttables.errors import NotFull
 from slanttables.shares import NOUGHT, minus, one_at
 from slanttables.slants import ends_good, makes, need_slants, share_rows, size_of
 
@@ -31,12 +32,17 @@ def paper_good(slants, thing):
     return thing[0] == "none" and nought_row_good(slants, thing[1])
 
 
-def one_rows(slants):
-    """Tell, of full slants, the list of the rows by the i-th of which times_row is 1 at place i and 0 else."""
+def back_rows(slants):
+    """Tell, of full slants, the list of the rows of their back."""
     size = size_of(slants)
     rows = [row + one_at(place, size) for place, row in enumerate(share_rows(slants))]
-    leading = cleared(rows, size)[0]
-    return [tuple([row[size + place] for row in leading]) for place in range(size)]
+    return [row[size:] for row in cleared(rows, size)[0]]
+
+
+def one_rows(slants):
+    """Tell, of full slants, the list of the rows by the i-th of which times_row is 1 at place i and 0 else."""
+    rows = back_rows(slants)
+    return [tuple([row[place] for row in rows]) for place in range(len(rows))]
 
 
 def paper_of(slants):
@@ -50,6 +56,12 @@ def paper_of(slants):
 def is_full(slants):
     """Tell whether times_row is noughts of the row of noughts alone."""
     return free_many(slants) == 0
+
+
+def need_full(slants):
+    """Refuse what is no slants, and then slants that are not full."""
+    if not is_full(slants):
+        raise NotFull()
 
 
 def free_row(place, size, leading, places):

@@ -41,11 +41,16 @@ def is_share(thing):
     return bottom > 0 and common_divisor(top, bottom) == 1
 
 
-def is_row(thing, many):
-    """Tell whether a thing is a row of this many shares."""
-    if not isinstance(thing, tuple) or len(thing) != many:
+def is_row_within(thing, least, most):
+    """Tell whether a thing is a row of least to most shares."""
+    if not isinstance(thing, tuple) or not least <= len(thing) <= most:
         return False
     return all([is_share(part) for part in thing])
+
+
+def is_row(thing, many):
+    """Tell whether a thing is a row of this many shares."""
+    return is_row_within(thing, many, many)
 
 
 def share_by(top, bottom):

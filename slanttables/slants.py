@@ -122,3 +122,9 @@ def need_whole_row(slants, thing):
     """Refuse with NoRow what is no row of as many whole numbers as the size, none too small or too great."""
     if not are_within(thing, LEAST_IN_ROW, MOST_IN_ROW) or len(thing) != size_of(slants):
         raise NoRow()
+
+
+def need_numbers(thing, most):
+    """Refuse with NoRow what is no tuple of one to most whole numbers, each such as slants have."""
+    if not are_within(thing, LEAST, MOST) or not 1 <= len(thing) <= most:
+        raise NoRow()

@@ -1,5 +1,6 @@
 """Reckoning with fractions and by other ways than the package's, to compare with."""
 
+import functools
 import itertools
 from fractions import Fraction
 
@@ -58,6 +59,11 @@ def one_alone(place, size):
 
 def ones_by_orders(slants):
     """Tell, of full slants, the rows by the i-th of which the table makes 1 at place i and 0 else."""
+    return list(all_ones_by_orders(slants))
+
+
+@functools.lru_cache(maxsize=None)
+def all_ones_by_orders(slants):
     table = table_by_places(slants)
     number = number_by_orders(table)
     rows = []
@@ -67,7 +73,7 @@ def ones_by_orders(slants):
             put = [line[:place] + [int(i == at)] + line[place + 1:] for i, line in enumerate(table)]
             row.append(Fraction(number_by_orders(put), number))
         rows.append(row_of_fractions(row))
-    return rows
+    return tuple(rows)
 
 
 def columns_rank(columns):
@@ -87,3 +93,56 @@ def free_places(slants):
     """Tell the places whose column of the table is a sum of shares of the columns ahead of it."""
     columns = list(zip(*table_by_places(slants)))
     return [place for place in range(len(columns)) if columns_rank(columns[:place + 1]) == columns_rank(columns[:place])]
+
+
+def times_grid(one, other):
+    """Tell the product of two square tables, lists of lists of numbers."""
+    places = range(len(one))
+    return [[sum(one[i][k] * other[k][j] for k in places) for j in places] for i in places]
+
+
+def pair_by_places(slants, one, other):
+    """Tell the sum, over all rows and columns, of the table's number times the one's fraction and the other's."""
+    return sum(number * left * right for line, left in zip(table_by_places(slants), fractions_of(one))
+               for number, right in zip(line, fractions_of(other)))
+
+
+def changes(numbers):
+    """Tell how often the sign changes from number to number, noughts left out."""
+    left = [number for number in numbers if number]
+    return sum((one > 0) != (other > 0) for one, other in zip(left, left[1:]))
+
+
+@functools.lru_cache(maxsize=None)
+def signs_by_changes(slants):
+    """Tell the signs of even slants by the rule of signs, out of the sums of the numbers of parts.
+
+    A part here has the same rows and columns; the sums are, with their signs by
+    turns, the numbers ahead of the powers in the equation of the table's roots.
+    """
+    table = table_by_places(slants)
+    size = len(table)
+    sums = [sum(number_by_orders([[table[i][j] for j in part] for i in part])
+                for part in itertools.combinations(range(size), many)) for many in range(size + 1)]
+    above = changes([-total if many % 2 else total for many, total in enumerate(sums)])
+    below = changes(sums)
+    return (above, below, size - above - below)
+
+
+def lengths_by_turns(numbers):
+    """Tell the least lengths of rules of the numbers' beginnings, each made out of the one ahead (Massey's way)."""
+    rule, other = [Fraction(1)], [Fraction(1)]
+    length, since, before = 0, 1, Fraction(1)
+    lengths = []
+    for place, number in enumerate(numbers):
+        missed = number + sum(rule[i] * numbers[place - i] for i in range(1, min(len(rule), place + 1)))
+        if missed:
+            longer = rule + [Fraction(0)] * (since + len(other) - len(rule))
+            for i, part in enumerate(other):
+                longer[since + i] -= missed / before * part
+            if 2 * length <= place:
+                length, other, before, since = place + 1 - length, rule, missed, 0
+            rule = longer
+        since += 1
+        lengths.append(length)
+    return lengths

@@ -2,7 +2,7 @@
 
 import unittest
 
-from slanttables.clearing import cleared
+from slanttables.clearing import are_independent, cleared
 
 
 def row_of(*numbers):
@@ -30,6 +30,18 @@ class Cleared(unittest.TestCase):
         rows = [row_of(0, 2), row_of(5, 5)]
         cleared(rows, 2)
         self.assertEqual(rows, [row_of(0, 2), row_of(5, 5)])
+
+
+class Independent(unittest.TestCase):
+    def test_written_out(self):
+        self.assertIs(are_independent([], 2), True)
+        self.assertIs(are_independent([row_of(0, 3)], 2), True)
+        self.assertIs(are_independent([row_of(0, 0)], 2), False)
+        self.assertIs(are_independent([row_of(1, 2), row_of(2, 1)], 2), True)
+        self.assertIs(are_independent([row_of(1, 2), row_of(-2, -4)], 2), False)
+        self.assertIs(are_independent([row_of(1, 2), row_of(2, 1), row_of(1, 0)], 2), False)
+        self.assertIs(are_independent([row_of(1, 2, 3), row_of(4, 5, 6), row_of(7, 8, 9)], 3), False)
+        self.assertIs(are_independent([row_of(1, 2, 3), row_of(4, 5, 6), row_of(7, 8, 8)], 3), True)
 
 
 if __name__ == "__main__":

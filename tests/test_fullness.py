@@ -7,31 +7,17 @@ import unittest
 from slanttables.errors import NoSlants
 from slanttables.fullness import free_many, free_rows, is_full, paper_good, paper_of, rank_of
 from slanttables.slants import mirrored_slants, row_good, turned_slants
+from tests.checks import Checks
 from tests.reference import (
     columns_rank, fractions_of, free_places, one_alone, ones_by_orders, row_of_fractions, size_by_length, table_by_places,
     times_fractions,
 )
 from tests.things import (
-    FULL_NOT_STRONG, MANY_SLANTS, NO_SHARES, NO_SLANTS, NOT_FULL, OTHER_THINGS, STRONG, no_rows, rows_for,
+    FULL, FULL_NOT_STRONG, FULL_OF_EACH_SIZE, MANY_SLANTS, NO_SHARES, NO_SLANTS, NOT_FULL, NOT_FULL_OF_EACH_SIZE, OTHER_THINGS,
+    STRONG, no_rows, noughts, rows_for, rows_near,
 )
 
-FULL = STRONG + FULL_NOT_STRONG
-
-FULL_OF_EACH_SIZE = [
-    (1,), (1, 2, 3), (3, 0, 5), (5, -1, 3, 2, 4), (1, 0, 0, 1, 0), (2, -1, 3, 5, 4, 0, 7), (1, 0, 0, 0, 1, 0, 0),
-    (1, 1, 0, 0, 2, 0, 3, 0, -1), (0, 0, 0, 0, 1, 0, 0, 0, 0),
-]
-
-NOT_FULL_OF_EACH_SIZE = [
-    (0,), (4, 4, 4), (0, 0, 0), (1, 2, 3, 4, 5), (0, 0, 0, 1, 2), (3,) * 7, (1, -2, 3, -4, 5, -6, 7), (0,) * 9, (-50,) * 9,
-    (1, 2, 3, 4, 5, 6, 7, 8, 9),
-]
-
 NO_WORDS = ["", "Full", "full ", "none ", "None", "FULL", "papers", None, True, False, 0, 1, ["full"], ("full",), {}, [], ()]
-
-
-def noughts(size):
-    return ((0, 1),) * size
 
 
 def nought_rows(slants):
@@ -45,7 +31,7 @@ def taken(row, share):
     return row_of_fractions([number * fractions_of([share])[0] for number in fractions_of(row)])
 
 
-class NoSlantsGoes(unittest.TestCase):
+class NoSlantsGoes(Checks):
     def test_of_each_function(self):
         for thing in NO_SLANTS:
             for function in (paper_of, is_full, free_rows, free_many, rank_of):
@@ -57,7 +43,7 @@ class NoSlantsGoes(unittest.TestCase):
                     paper_good(thing, paper)
 
 
-class FullPapers(unittest.TestCase):
+class FullPapers(Checks):
     def test_written_out(self):
         self.assertIs(paper_good((2,), ("full", ((1, 2),), ((1, 2),))), True)
         self.assertIs(paper_good((2,), ("full", [((1, 2),)])), True)
@@ -100,25 +86,16 @@ class FullPapers(unittest.TestCase):
         ]
         things += [(word, rows) for word in NO_WORDS] + [(word, first, last) for word in NO_WORDS]
         for at, row in enumerate(rows):
-            things += [("full", rows[:at] + [changed] + rows[at + 1:]) for changed in self.changed_rows(row)]
-        things += [("full", changed, last) for changed in self.changed_rows(first)]
-        things += [("full", first, changed) for changed in self.changed_rows(last)]
+            things += [("full", rows[:at] + [changed] + rows[at + 1:]) for changed in rows_near(row)]
+        things += [("full", changed, last) for changed in rows_near(first)]
+        things += [("full", first, changed) for changed in rows_near(last)]
         if first != last:
             things += [("full", last, first), ("full", first, first), ("full", last, last), ("full", rows[::-1])]
         return things
 
-    def changed_rows(self, row):
-        """Tell the row with another thing at each place in turn: what is no share, and another share."""
-        return [row[:place] + (other,) + row[place + 1:] for place, (top, bottom) in enumerate(row)
-                for other in NO_SHARES + [(top + bottom, bottom)]]
-
     def test_other_things(self):
         for slants in FULL_OF_EACH_SIZE:
-            for thing in self.other_papers(slants):
-                kept = copy.deepcopy(thing)
-                with self.subTest((slants, repr(thing)[:80])):
-                    self.assertIs(paper_good(slants, thing), False)
-                    self.assertEqual(repr(thing), repr(kept))
+            self.check_none_good(paper_good, slants, self.other_papers(slants))
 
     def test_truths_are_no_numbers_in_it(self):
         self.assertIs(paper_good((1,), ("full", ((1, 1),), ((1, 1),))), True)
@@ -129,7 +106,7 @@ class FullPapers(unittest.TestCase):
             self.assertIs(paper_good((1,), ("full", [(share,)])), False)
 
 
-class NonePapers(unittest.TestCase):
+class NonePapers(Checks):
     def test_written_out(self):
         self.assertIs(paper_good((0,), ("none", ((22, 7),))), True)
         self.assertIs(paper_good((0,), ("none", ((0, 1),))), False)
@@ -158,11 +135,7 @@ class NonePapers(unittest.TestCase):
             things += [(word, row) for word in NO_WORDS] + [("none", thing) for thing in no_rows(size)]
             for place in range(size):
                 things += [("none", row[:place] + (other,) + row[place + 1:]) for other in NO_SHARES]
-            for thing in things:
-                kept = copy.deepcopy(thing)
-                with self.subTest((slants, repr(thing)[:80])):
-                    self.assertIs(paper_good(slants, thing), False)
-                    self.assertEqual(repr(thing), repr(kept))
+            self.check_none_good(paper_good, slants, things)
 
     def test_truths_are_no_numbers_in_it(self):
         for share in ((True, 1), (1, True), (False, 1), [1, 1]):
@@ -171,7 +144,7 @@ class NonePapers(unittest.TestCase):
             self.assertIs(paper_good((0, 0, 0), ("none", ((1, 1), share))), False)
 
 
-class AnyPapers(unittest.TestCase):
+class AnyPapers(Checks):
     def test_things_of_whatever_kind(self):
         for slants in FULL_OF_EACH_SIZE + NOT_FULL_OF_EACH_SIZE:
             for thing in OTHER_THINGS + NO_SHARES + rows_for(size_by_length(slants)):
@@ -183,7 +156,7 @@ class AnyPapers(unittest.TestCase):
                     self.assertIs(paper_good(slants, (word, thing, thing)), False)
 
 
-class PaperOf(unittest.TestCase):
+class PaperOf(Checks):
     def test_is_a_paper(self):
         for slants in MANY_SLANTS:
             paper = paper_of(slants)
@@ -218,7 +191,7 @@ class PaperOf(unittest.TestCase):
             self.assertEqual(paper_of(slants), kept)
 
 
-class IsFull(unittest.TestCase):
+class IsFull(Checks):
     def test_written_out(self):
         for slants in FULL_OF_EACH_SIZE:
             self.assertIs(is_full(slants), True)
@@ -232,7 +205,7 @@ class IsFull(unittest.TestCase):
             self.assertIs(is_full(slants), False)
 
 
-class FreeRows(unittest.TestCase):
+class FreeRows(Checks):
     def test_written_out(self):
         one, nought = (1, 1), (0, 1)
         self.assertEqual(free_rows((7,)), [])
@@ -267,11 +240,7 @@ class FreeRows(unittest.TestCase):
 
     def test_are_the_askers_own(self):
         for slants in NOT_FULL_OF_EACH_SIZE:
-            kept = copy.deepcopy(free_rows(slants))
-            told = free_rows(slants)
-            told[0] = None
-            told.append(None)
-            self.assertEqual(free_rows(slants), kept)
+            self.check_own_list(free_rows, slants)
 
     def test_how_many_and_the_rank(self):
         for slants in MANY_SLANTS:
@@ -282,7 +251,7 @@ class FreeRows(unittest.TestCase):
             self.assertIs(type(rank_of(slants)), int)
 
 
-class WhatFollows(unittest.TestCase):
+class WhatFollows(Checks):
     def test_full_ones_have_no_paper_of_the_third_kind(self):
         for slants in FULL:
             size = size_by_length(slants)

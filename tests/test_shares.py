@@ -58,6 +58,13 @@ class Kinds(unittest.TestCase):
         self.assertIs(shares.is_row([(1, 2), (0, 1)], 2), False)
         self.assertIs(shares.is_row(((1, 2), (0, 2)), 2), False)
 
+    def test_rows_of_so_many_at_least_and_at_most(self):
+        row = ((1, 2),) * 5
+        self.assertEqual([shares.is_row_within(row[:many], 1, 3) for many in range(6)], [False, True, True, True, False, False])
+        self.assertEqual([shares.is_row_within(row[:many], 0, 1) for many in range(3)], [True, True, False])
+        for thing in ([(1, 2)], ((2, 4),), ((1, 2), None), (1,), None, "", [], {}, 1, (True,)):
+            self.assertIs(shares.is_row_within(thing, 0, 3), False)
+
 
 class Reckoning(unittest.TestCase):
     def check(self, told, expected):

@@ -6,12 +6,13 @@ import unittest
 from slanttables.errors import NoNumber, NoRow, NoSlants, NotStrong
 from slanttables.slants import corner, row_good, times_row, turned_slants
 from slanttables.solving import first_weak, solved, solved_steps, solves, step_next, steps_of
+from tests.checks import Checks
 from tests.reference import (
     fractions_of, numbers_by_orders, one_alone, row_of_fractions, size_by_length, times_fractions,
 )
 from tests.things import (
     FULL_NOT_STRONG, MANY_SLANTS, NO_SHARES, NO_SLANTS, NOT_FULL, OTHER_THINGS, STRONG, no_rows, no_whole_rows, rows_for,
-    whole_rows_for,
+    rows_near, whole_rows_for,
 )
 
 WEAK = FULL_NOT_STRONG + NOT_FULL
@@ -23,7 +24,7 @@ def first_weak_size(slants):
     return numbers_by_orders(slants).index(0) + 1
 
 
-class Refusals(unittest.TestCase):
+class Refusals(Checks):
     def check_not_strong(self, slants, function, *others):
         with self.subTest((slants, function.__name__)):
             with self.assertRaises(NotStrong) as caught:
@@ -73,15 +74,11 @@ class Refusals(unittest.TestCase):
     def test_no_row_of_whole_numbers(self):
         for slants in STRONG_OF_EACH_SIZE:
             for thing in no_whole_rows(size_by_length(slants)):
-                kept = copy.deepcopy(thing)
-                with self.subTest((slants, repr(thing)[:60])):
-                    for function in (solved, solved_steps):
-                        with self.assertRaises(NoRow):
-                            function(slants, thing)
-                    self.assertEqual(repr(thing), repr(kept))
+                for function in (solved, solved_steps):
+                    self.check_refused(NoRow, function, slants, thing)
 
 
-class FirstWeak(unittest.TestCase):
+class FirstWeak(Checks):
     def test_written_out(self):
         self.assertIsNone(first_weak((7,)))
         self.assertEqual(first_weak((0,)), 1)
@@ -98,7 +95,7 @@ class FirstWeak(unittest.TestCase):
             self.assertEqual(first_weak(slants), first_weak_size(slants))
 
 
-class Steps(unittest.TestCase):
+class Steps(Checks):
     def test_written_out(self):
         self.assertEqual(steps_of((7,)), [(((1, 7),), ((1, 7),))])
         self.assertEqual(steps_of((-4,)), [(((-1, 4),), ((-1, 4),))])
@@ -121,14 +118,10 @@ class Steps(unittest.TestCase):
 
     def test_are_the_askers_own(self):
         for slants in STRONG_OF_EACH_SIZE:
-            kept = copy.deepcopy(steps_of(slants))
-            told = steps_of(slants)
-            told.append(None)
-            told[0] = None
-            self.assertEqual(steps_of(slants), kept)
+            self.check_own_list(steps_of, slants)
 
 
-class StepNext(unittest.TestCase):
+class StepNext(Checks):
     def test_written_out(self):
         self.assertEqual(step_next((1, 2, 3), (((1, 2),), ((1, 2),))), (((2, 1), (-1, 1)), ((-3, 1), (2, 1))))
 
@@ -152,24 +145,13 @@ class StepNext(unittest.TestCase):
         ]
         if first != last:
             things += [(last, first), (first, first), (last, last)]
-        for place in range(len(first)):
-            for other in NO_SHARES + [self.next_share(first[place])]:
-                things.append((first[:place] + (other,) + first[place + 1:], last))
-            for other in NO_SHARES + [self.next_share(last[place])]:
-                things.append((first, last[:place] + (other,) + last[place + 1:]))
+        things += [(other, last) for other in rows_near(first)] + [(first, other) for other in rows_near(last)]
         return things
-
-    def next_share(self, share):
-        return (share[0] + share[1], share[1])
 
     def test_no_row(self):
         for slants in STRONG_OF_EACH_SIZE[1:]:
             for thing in self.other_steps(slants):
-                kept = copy.deepcopy(thing)
-                with self.subTest((slants, repr(thing)[:80])):
-                    with self.assertRaises(NoRow):
-                        step_next(slants, thing)
-                    self.assertEqual(repr(thing), repr(kept))
+                self.check_refused(NoRow, step_next, slants, thing)
 
     def test_truths_are_no_numbers_in_it(self):
         self.assertEqual(step_next((5, 1, 0), (((1, 1),), ((1, 1),))), (((1, 1), (-5, 1)), ((0, 1), (1, 1))))
@@ -185,7 +167,7 @@ class StepNext(unittest.TestCase):
                 step_next(mine, steps_of(yours)[1])
 
 
-class Solved(unittest.TestCase):
+class Solved(Checks):
     def test_written_out(self):
         self.assertEqual(solved((7,), (3,)), ((3, 7),))
         self.assertEqual(solved((-4,), (6,)), ((-3, 2),))
@@ -217,7 +199,7 @@ class Solved(unittest.TestCase):
         self.assertEqual(solved_steps((1, 2, 3), (5, 6)), [((5, 2),), ((-8, 1), (7, 1))])
 
 
-class Solves(unittest.TestCase):
+class Solves(Checks):
     def test_written_out(self):
         self.assertIs(solves((1, 2, 3), (5, 6), ((-8, 1), (7, 1))), True)
         self.assertIs(solves((1, 2, 3), (5, 6), ((7, 1), (-8, 1))), False)
@@ -270,7 +252,7 @@ class Solves(unittest.TestCase):
                             solves(slants, right, thing)
 
 
-class WhatFollows(unittest.TestCase):
+class WhatFollows(Checks):
     def test_first_row_from_behind_is_the_last_row_of_the_turned_corner(self):
         for slants in STRONG:
             turned = steps_of(turned_slants(slants))

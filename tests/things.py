@@ -2,7 +2,7 @@
 
 import itertools
 
-from tests.reference import kind_by_orders
+from tests.reference import kind_by_orders, signs_by_changes
 
 # One of each kind that may be handed in, none of them slants, a table, a row of shares or a size.
 OTHER_THINGS = [
@@ -114,3 +114,59 @@ SLANTS_BY_KIND = sorted_out(MANY_SLANTS)
 STRONG = SLANTS_BY_KIND["strong"]
 FULL_NOT_STRONG = SLANTS_BY_KIND["full"]
 NOT_FULL = SLANTS_BY_KIND["not full"]
+
+FULL = STRONG + FULL_NOT_STRONG
+
+FULL_OF_EACH_SIZE = [
+    (1,), (1, 2, 3), (3, 0, 5), (5, -1, 3, 2, 4), (1, 0, 0, 1, 0), (2, -1, 3, 5, 4, 0, 7), (1, 0, 0, 0, 1, 0, 0),
+    (1, 1, 0, 0, 2, 0, 3, 0, -1), (0, 0, 0, 0, 1, 0, 0, 0, 0),
+]
+
+NOT_FULL_OF_EACH_SIZE = [
+    (0,), (4, 4, 4), (0, 0, 0), (1, 2, 3, 4, 5), (0, 0, 0, 1, 2), (3,) * 7, (1, -2, 3, -4, 5, -6, 7), (0,) * 9, (-50,) * 9,
+    (1, 2, 3, 4, 5, 6, 7, 8, 9),
+]
+
+
+def noughts(size):
+    return ((0, 1),) * size
+
+
+def next_share(share):
+    """Tell a share that is 1 more."""
+    return (share[0] + share[1], share[1])
+
+
+def rows_near(row):
+    """Tell the row with another thing at each place in turn: what is no share, and another share."""
+    return [row[:place] + (other,) + row[place + 1:] for place, share in enumerate(row)
+            for other in NO_SHARES + [next_share(share)]]
+
+
+def even_slants(half):
+    """Tell the even slants whose middle number and those behind it are these."""
+    return half[:0:-1] + half
+
+
+ALL_EVEN = [even_slants(half) for size in range(1, 6) for half in itertools.product((-1, 0, 1), repeat=size)] + [
+    even_slants(half) for half in [
+        (50,), (-50,), (7,), (2, 1), (1, 2), (-2, 1), (50, -50), (49, 50), (50, 49), (2, 1, 0), (2, -1, 0), (-2, 1, 0), (5, 4, 3),
+        (3, 2, 1), (50, 50, -50), (0, 0, 7), (0, 7, 0), (4, -3, 2), (1, 2, 3, 4), (4, 3, 2, 1), (50, 10, 20, -30), (2, -1, 0, 0),
+        (6, -4, 1, 0), (0, 5, 0, 5), (7, 7, 7, 7), (-9, 2, -1, 3), (5, 4, 3, 2, 1), (1, 2, 3, 4, 5), (2, -1, 0, 0, 0),
+        (50, -20, 10, 0, 30), (-50, 49, -48, 47, -46), (6, -4, 1, 0, 0), (0, 0, 3, 0, 0), (0, 4, 0, -4, 0), (8, 8, 8, 8, 8),
+        (2, 1, -1, -2, -1), (2, -2, 2, -2, 2), (48, 0, 0, 0, -48), (0, 1, 2, 3, 4), (20, 5, -3, 2, 1),
+    ]] + [even_slants(slants[:size]) for size in range(1, 6) for slants in spread_slants(size, 12)]
+
+EVEN = list(dict.fromkeys(ALL_EVEN))
+NOT_EVEN = [slants for slants in MANY_SLANTS if slants != slants[::-1]]
+EVEN_STRONG = [slants for slants in EVEN if kind_by_orders(slants) == "strong"]
+EVEN_WEAK = [slants for slants in EVEN if kind_by_orders(slants) != "strong"]
+ABOVE = [slants for slants in EVEN if signs_by_changes(slants)[1:] == (0, 0)]
+NOT_ABOVE = [slants for slants in EVEN if signs_by_changes(slants)[1:] != (0, 0)]
+
+EVEN_OF_EACH_SIZE = [
+    (1,), (-4,), (0,), (1, 2, 1), (2, 1, 2), (3, 3, 3), (0, 0, 0), (0, -1, 2, -1, 0), (1, 0, 0, 0, 1), (2, 0, 1, 0, 2), (5,) * 5,
+    (0, 0, -1, 2, -1, 0, 0), (4, 3, 2, 1, 2, 3, 4), (0, 1, 0, 0, 0, 1, 0), (1, 0, 0, 0, 0, 0, 1), (0,) * 7,
+    (0, 0, 0, -1, 2, -1, 0, 0, 0), (1, 2, 3, 4, 5, 4, 3, 2, 1), (0, 0, 3, 0, 0, 0, 3, 0, 0), (-1,) * 9,
+    (1, 0, 0, 0, 0, 0, 0, 0, 1),
+]
